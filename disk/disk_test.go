@@ -424,10 +424,10 @@ func TestCrashKeepsTheFirstChanges(t *testing.T) {
 	}{
 		{0, 0, "a=1"}, {-3, 0, "a=1"}, {math.MinInt, math.MinInt, "a=1"}, {0, -1, "a=1"},
 		{0, 1, "a=12"}, {-1, 1, "a=12"}, {0, 2, "a=123"}, {0, 9, "a=123"}, {0, math.MaxInt, "a=123"},
-		{1, 0, "a=123"}, {1, 9, "a=123"}, {2, 0, "b=123"}, {2, 9, "b=123"}, {2, 1, "b=123"},
-		{3, 0, "b=123"}, {3, 1, "b=123 c="}, {3, 9, "b=123 c="},
-		{4, 0, "b=123 c="}, {4, 1, "b=123 c="}, {5, 0, "c="}, {5, 1, "a=x c="},
-		{6, 0, "a=xy c="}, {6, 1, "a=xy c="}, {7, 0, "a=xy c="}, {math.MaxInt, math.MaxInt, "a=xy c="},
+		{1, 0, "a=123"}, {1, 9, "a=123"},
+		{2, 0, "b=123"}, {2, -1, "b=123"}, {2, 1, "b=123 c="}, {2, 9, "b=123 c="},
+		{3, 0, "b=123 c="}, {3, 1, "b=123 c="}, {4, 0, "c="}, {4, 1, "a=x c="},
+		{5, 0, "a=xy c="}, {5, 1, "a=xy c="}, {6, 0, "a=xy c="}, {math.MaxInt, math.MaxInt, "a=xy c="},
 	} {
 		d := disk.New(100)
 		must(t, write(d, "a", "1"), d.Sync())
@@ -448,6 +448,45 @@ func TestCrashKeepsTheFirstChanges(t *testing.T) {
 		d.Crash(9, 9)
 		if got := files(d); got != c.want {
 			t.Errorf("Crash(%d, %d), and another: %q, want %q", c.keep, c.torn, got, c.want)
+		}
+	}
+}
+
+// It is a step, but none of the changes: neither counted in keep, nor the next one in the way of a torn Write.
+func TestCrashDoesNotCountAMoveOntoItself(t *testing.T) {
+	for _, c := range []struct {
+		keep, torn int
+		want       string
+	}{
+		{0, 0, ""}, {0, 1, "a=x"}, {1, 0, "a=x"}, {1, 1, "a=x b=y"}, {1, 9, "a=x b=yz"}, {2, 0, "a=x b=yz"},
+	} {
+		d := disk.New(100)
+		must(t, write(d, "a", "x"), d.Move("a", "a"), d.Move("a", "a"), write(d, "b", "yz"), d.Move("b", "b"))
+		if d.Steps() != 5 {
+			t.Errorf("Steps %d", d.Steps())
+		}
+		d.Crash(c.keep, c.torn)
+		if got := files(d); got != c.want {
+			t.Errorf("Crash(%d, %d): %q, want %q", c.keep, c.torn, got, c.want)
+		}
+	}
+}
+
+func TestFuseAtAMoveOntoItself(t *testing.T) {
+	for _, c := range []struct {
+		keep, torn int
+		want       string
+	}{{0, 0, ""}, {0, 1, "a=x"}, {1, 0, "a=x"}, {2, 0, "a=x"}} {
+		d := disk.New(100)
+		must(t, write(d, "a", "x"))
+		d.Fuse(2)
+		must(t, d.Move("a", "a"))
+		if err := d.Move("a", "a"); err != api.ErrDown || !d.Down() || d.Steps() != 2 || d.Used() != 1 {
+			t.Errorf("error %d, Steps %d, Used %d", err, d.Steps(), d.Used())
+		}
+		d.Crash(c.keep, c.torn)
+		if got := files(d); got != c.want {
+			t.Errorf("Crash(%d, %d): %q, want %q", c.keep, c.torn, got, c.want)
 		}
 	}
 }
@@ -475,10 +514,18 @@ func TestWritesBehindACrash(t *testing.T) {
 	holds(t, d, "a=12345678ne")
 }
 
+// done is a change as the model keeps it: of a Write also what was written, and to which file.
+type done struct {
+	do         func(map[string]string)
+	isWrite    bool
+	name, text string
+}
+
 // model is a disk in the plainest way: all that was done from the last durable files on, done anew each time.
 type model struct {
-	safe map[string]string
-	log  []func(map[string]string)
+	safe  map[string]string
+	log   []done
+	steps int
 }
 
 func (m *model) now(keep int) map[string]string {
@@ -486,13 +533,23 @@ func (m *model) now(keep int) map[string]string {
 	for name, s := range m.safe {
 		files[name] = s
 	}
-	for _, do := range m.log[:keep] {
-		do(files)
+	for _, c := range m.log[:keep] {
+		c.do(files)
 	}
 	return files
 }
 
 func (m *model) settle(keep int) { m.safe, m.log = m.now(keep), nil }
+
+func (m *model) crash(keep, torn int) {
+	keep = min(max(keep, 0), len(m.log))
+	if torn > 0 && keep < len(m.log) && m.log[keep].isWrite {
+		c := m.log[keep]
+		m.log[keep] = writing(c.name, c.text[:min(torn, len(c.text))])
+		keep++
+	}
+	m.settle(keep)
+}
 
 func (m *model) text() string {
 	files := m.now(len(m.log))
@@ -504,75 +561,70 @@ func (m *model) text() string {
 	return strings.Join(parts, " ")
 }
 
-func writing(name, s string) func(map[string]string) {
-	return func(files map[string]string) { files[name] += s }
+func writing(name, s string) done {
+	return done{func(files map[string]string) { files[name] += s }, true, name, s}
 }
 
-func moving(name, to string) func(map[string]string) {
-	return func(files map[string]string) {
+func moving(name, to string) done {
+	return done{do: func(files map[string]string) {
 		s := files[name]
 		delete(files, name)
 		files[to] = s
-	}
+	}}
 }
 
-func dropping(name string) func(map[string]string) {
-	return func(files map[string]string) { delete(files, name) }
+func dropping(name string) done {
+	return done{do: func(files map[string]string) { delete(files, name) }}
 }
 
 func TestAgainstAModel(t *testing.T) {
-	for seed := range 200 {
+	for seed := range 400 {
 		playAgainstModel(t, rand.New(rand.NewSource(int64(seed))))
+	}
+}
+
+// playStep does one thing to both.
+func playStep(t *testing.T, r *rand.Rand, d *disk.Disk, m *model) {
+	name, to := string(rune('a'+r.Intn(4))), string(rune('a'+r.Intn(4)))
+	_, have := m.now(len(m.log))[name]
+	m.steps++
+	switch k := r.Intn(12); {
+	case k < 6:
+		s := strings.Repeat(string(rune('a'+r.Intn(26))), r.Intn(5))
+		must(t, write(d, name, s))
+		m.log = append(m.log, writing(name, s))
+	case k < 9 && have:
+		must(t, d.Move(name, to))
+		// Onto itself it is a step, but no change.
+		if name != to {
+			m.log = append(m.log, moving(name, to))
+		}
+	case k < 10 && have:
+		must(t, d.Drop(name))
+		m.log = append(m.log, dropping(name))
+	case k == 10:
+		must(t, d.Sync())
+		m.settle(len(m.log))
+	default:
+		m.steps--
+		keep, torn := r.Intn(len(m.log)+3)-1, r.Intn(7)-1
+		d.Crash(keep, torn)
+		m.crash(keep, torn)
 	}
 }
 
 func playAgainstModel(t *testing.T, r *rand.Rand) {
 	const room = 400
 	d, m := disk.New(room), &model{}
-	word := func() string { return strings.Repeat(string(rune('a'+r.Intn(26))), r.Intn(5)) }
-	torn := ""
-	var tornFile string
 	for range 80 {
-		name, to := string(rune('a'+r.Intn(4))), string(rune('a'+r.Intn(4)))
-		_, have := m.now(len(m.log))[name]
-		switch k := r.Intn(10); {
-		case k < 5:
-			s := word()
-			must(t, write(d, name, s))
-			m.log = append(m.log, writing(name, s))
-			torn, tornFile = s, name
-		case k < 7 && have:
-			must(t, d.Move(name, to))
-			m.log = append(m.log, moving(name, to))
-			tornFile = ""
-		case k < 8 && have:
-			must(t, d.Drop(name))
-			m.log = append(m.log, dropping(name))
-			tornFile = ""
-		case k == 8:
-			must(t, d.Sync())
-			m.settle(len(m.log))
-			tornFile = ""
-		case k == 9 && tornFile != "":
-			// The last change is a Write: keep all before it, and some of it.
-			n := 1 + r.Intn(4)
-			d.Crash(len(m.log)-1, n)
-			m.settle(len(m.log) - 1)
-			m.log = append(m.log, writing(tornFile, torn[:min(n, len(torn))]))
-			m.settle(1)
-			tornFile = ""
-		case k == 9:
-			keep := r.Intn(len(m.log) + 1)
-			d.Crash(keep, 0)
-			m.settle(keep)
-		}
+		playStep(t, r, d, m)
 		holds(t, d, m.text())
 		used := 0
 		for _, s := range m.now(len(m.log)) {
 			used += len(s)
 		}
-		if d.Used() != used || d.Free() != room-used {
-			t.Fatalf("Used %d, want %d", d.Used(), used)
+		if d.Used() != used || d.Free() != room-used || d.Steps() != m.steps {
+			t.Fatalf("Used %d, want %d; Steps %d, want %d", d.Used(), used, d.Steps(), m.steps)
 		}
 	}
 }

@@ -9,7 +9,7 @@ const (
 	drop
 )
 
-// change is one change of a disk that could be done when it was asked for.
+// change is one change of a disk that could be done when it was asked for. A move's two names differ.
 type change struct {
 	kind     kind
 	name, to string
@@ -47,9 +47,6 @@ func (v *volume) write(name string, data []byte) {
 }
 
 func (v *volume) move(name, to string) {
-	if name == to {
-		return
-	}
 	v.used -= len(v.files[to])
 	v.files[to] = v.files[name]
 	delete(v.files, name)
