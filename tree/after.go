@@ -37,34 +37,25 @@ func (b *Builder) modeOfContents(t token.Token) {
 }
 
 func (b *Builder) afterBody(t token.Token) {
-	blanks, t, more := b.cut(t)
-	b.blanksInBody(blanks)
-	switch {
-	case !more || t.Kind == token.Doctype:
-	case t.Kind == token.Comment:
-		b.commentIn(t, b.endOf(b.stack.All[0]))
-	case t.Is(token.Start, "html"):
-		b.inBody(t)
-	case t.Is(token.End, "html"):
-		if b.context == "" {
-			b.mode = afterAll
-		}
-	default:
-		b.again(inBody, t)
+	if !t.Is(token.End, "html") {
+		b.behindBody(t, b.endOf(b.stack.All[0]))
+		return
+	}
+	if b.context == "" {
+		b.mode = afterAll
 	}
 }
 
-func (b *Builder) blanksInBody(s string) {
-	b.inBody(token.Token{Kind: token.Text, Data: s})
-}
+func (b *Builder) afterAll(t token.Token) { b.behindBody(t, b.endOf(dom.None)) }
 
-func (b *Builder) afterAll(t token.Token) {
+// behindBody is for what comes behind the body; a comment goes to a place of its own.
+func (b *Builder) behindBody(t token.Token, comments place) {
 	blanks, t, more := b.cut(t)
-	b.blanksInBody(blanks)
+	b.textInBody(token.Token{Kind: token.Text, Data: blanks})
 	switch {
 	case !more || t.Kind == token.Doctype:
 	case t.Kind == token.Comment:
-		b.commentIn(t, b.endOf(dom.None))
+		b.commentIn(t, comments)
 	case t.Is(token.Start, "html"):
 		b.inBody(t)
 	default:

@@ -33,6 +33,7 @@ func TestEndOfForms(t *testing.T) {
 		{"<template><form><div>a</form>b", "template(form(div('a')) 'b')"},
 		{"<template><form><object>a</form>b", "template(form(object('ab')))"},
 		{"<form><button></form>a", "form(button('a'))"},
+		{"<form><button></form></button>a", "form(button) 'a'"},
 		{"<form><ul></form>a", "form(ul('a'))"},
 		{"<form><ul></form></ul>a", "form(ul) 'a'"},
 		{"<form><object></form></object>a", "form(object 'a')"},

@@ -33,12 +33,17 @@ func (b *Builder) backToTableBody() {
 
 // closeTableBody closes a part of the table, if one of some names is in scope, and tells whether one is.
 func (b *Builder) closeTableBody(names ...string) bool {
+	return b.closePart(b.backToTableBody, inTable, names...)
+}
+
+// closePart closes the innermost element that is left once all within it is closed, if one of some names is in scope, and tells whether one is.
+func (b *Builder) closePart(back func(), mode int, names ...string) bool {
 	if !b.stack.Scope(open.Table, names...) {
 		return false
 	}
-	b.backToTableBody()
+	back()
 	b.stack.Pop()
-	b.mode = inTable
+	b.mode = mode
 	return true
 }
 
@@ -64,15 +69,7 @@ func (b *Builder) inRow(t token.Token) {
 func (b *Builder) backToRow() { b.stack.Back("tr", "template", "html") }
 
 // closeRow closes the row, if one is in scope, and tells whether one is.
-func (b *Builder) closeRow() bool {
-	if !b.stack.Scope(open.Table, "tr") {
-		return false
-	}
-	b.backToRow()
-	b.stack.Pop()
-	b.mode = inTableBody
-	return true
-}
+func (b *Builder) closeRow() bool { return b.closePart(b.backToRow, inTableBody, "tr") }
 
 func (b *Builder) againBehindRow(t token.Token) {
 	if b.closeRow() {
