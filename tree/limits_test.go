@@ -90,8 +90,10 @@ func TestNodesOfParts(t *testing.T) {
 	fails(t, paragraphs+"<p>", api.ErrNodes, api.ErrNodes)
 }
 
-// open is so many elements within each other.
-func openedOf(n int, in string) string { return strings.Repeat("<div>", n) + in }
+// openedOf is markup within so many elements, each within the one before, none of which is closed.
+func openedOf(n int, in string) string {
+	return strings.Repeat("<div>", n) + in
+}
 
 func TestDeep(t *testing.T) {
 	const most = api.MaxDepth - 2 // within html and body
